@@ -67,7 +67,7 @@ func TestDecodeTurned(t *testing.T) {
 	r := rand.New(rand.NewPCG(14, 3))
 	right, seen := 0, map[api.Errno]int{}
 	all := append(messages(), short()...)
-	for range 60000 {
+	for range 40000 {
 		m := all[r.IntN(len(all))]
 		if r.IntN(2) == 0 {
 			m = short()[r.IntN(len(short()))]
